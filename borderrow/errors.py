@@ -1,0 +1,1 @@
+"""Nothing is refused, so the program has no errors of its own."""
