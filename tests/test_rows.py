@@ -7,8 +7,7 @@ import unittest
 import borderrow.errors
 import borderrow.rows
 from borderrow.rows import border_row, borders_by, start_row, starts_by
-
-LETTERS = "abcdefghijklmnopqrstuvwxyz"
+from said import LETTERS, long_words, many_words, said_borders, said_starts
 
 # A word, its row of borders, its row of starts.
 KNOWN = [
@@ -32,53 +31,6 @@ KNOWN = [
     ("mississippi", (0, 0, 0, 0, 0, 0, 0, 0, 0, 0, 0), (0, 0, 0, 0, 0, 0, 0, 0, 0, 0)),
     ("abababababababab", (0, 0) + tuple(range(1, 15)), (0, 14, 0, 12, 0, 10, 0, 8, 0, 6, 0, 4, 0, 2, 0)),
 ]
-
-
-def borders(word):
-    """All lengths, less than that of the word, of which the head is the tail."""
-    return [length for length in range(len(word)) if word[:length] == word[len(word) - length:]]
-
-
-def said_borders(word):
-    """The row of borders in the document's own words."""
-    heads = [word[:length] for length in range(1, len(word) + 1)]
-    return tuple([max(borders(head)) for head in heads])
-
-
-def said_starts(word):
-    """The row of starts in the document's own words."""
-    tails = [word[place:] for place in range(1, len(word))]
-    return tuple([max(length for length in range(len(tail) + 1) if tail[:length] == word[:length]) for tail in tails])
-
-
-def all_words(letters, longest):
-    for length in range(longest + 1):
-        for word in itertools.product(letters, repeat=length):
-            yield "".join(word)
-
-
-def many_words():
-    """All words of few letters."""
-    return itertools.chain(all_words("ab", 11), all_words("abc", 7), all_words("dcba", 5), all_words("azmbq", 4))
-
-
-def doubled(pieces, length):
-    """A word in which what stood so far comes again: each piece is the two ahead of it, put together."""
-    one, other = pieces
-    while len(other) < length:
-        one, other = other, other + one
-    return other[:length]
-
-
-def long_words():
-    """Words of 15 to 41 letters: most of them of 40."""
-    words = [
-        "a" * 40, "z" * 40, "a" * 39 + "b", "b" + "a" * 39, "a" * 20 + "b" + "a" * 19, "a" * 19 + "b" + "a" * 20,
-        "ab" * 20, "ab" * 19 + "aa", "abc" * 13 + "a", "abc" * 13 + "b", "abcdefg" * 5 + "abcde", "aab" * 13 + "a",
-        "abacabadabacabaeabacabadabacabafabacabad", LETTERS + LETTERS[:14], LETTERS[:20] * 2,
-        doubled(("b", "a"), 40), doubled(("a", "b"), 40), doubled(("ab", "aac"), 40), doubled(("c", "abab"), 40),
-    ]
-    return words + [doubled(("b", "a"), length) for length in range(15, 42)] + [LETTERS, "a" * 41]
 
 
 class KnownRows(unittest.TestCase):
